@@ -43,16 +43,28 @@ def is_refresh(network, horizon, thing):
     return is_tuple_of(thing, 2) and is_number(thing[0], 1, horizon) and is_node(network, thing[1])
 
 
-def check_plan(network, horizon, plan):
-    """Raise BadPlan if a thing is not a list or tuple of different refreshes, in order."""
-    if not isinstance(plan, (list, tuple)):
-        raise BadPlan("not a list or tuple")
-    if not all([is_refresh(network, horizon, refresh) for refresh in plan]):
-        raise BadPlan("not a list of refreshes")
+def is_plan(network, horizon, thing):
+    """Return whether a thing is a list or tuple of different refreshes, in order."""
+    if not isinstance(thing, (list, tuple)):
+        return False
+    if not all([is_refresh(network, horizon, refresh) for refresh in thing]):
+        return False
     names = network.names()
-    places = [(tick, names.index(name)) for tick, name in plan]
-    if not all([places[at - 1] < places[at] for at in range(1, len(places))]):
-        raise BadPlan("not ascending")
+    places = [(tick, names.index(name)) for tick, name in thing]
+    return all([places[at - 1] < places[at] for at in range(1, len(places))])
+
+
+def check_plan(network, horizon, plan):
+    """Raise BadPlan if a thing is not a plan."""
+    if not is_plan(network, horizon, plan):
+        raise BadPlan("not a list or tuple of different refreshes, in order")
+
+
+def check_planned(network, horizon, plan):
+    """Raise what is documented if network, horizon or plan is not one."""
+    check_network(network)
+    check_horizon(horizon)
+    check_plan(network, horizon, plan)
 
 
 def is_query(network, horizon, thing):
@@ -60,6 +72,12 @@ def is_query(network, horizon, thing):
     if not is_tuple_of(thing, 3) or not is_number(thing[0], 0, horizon):
         return False
     return is_node(network, thing[1]) and is_number(thing[2], 0, MOST_TOLERANCE)
+
+
+def check_query(network, horizon, query):
+    """Raise BadQuery if a thing is not a query."""
+    if not is_query(network, horizon, query):
+        raise BadQuery("not a query")
 
 
 def check_queries(network, horizon, queries):

@@ -1,4 +1,4 @@
-"""Formulas of views: their form, their inputs, and what they compute."""
+"""Formulas of views: their form, their inputs, what they compute, and how far off it can be."""
 
 from fewrefresh.basics import is_name, is_number, is_tuple_of
 
@@ -43,3 +43,23 @@ def computed(formula, known):
     if kind == "min":
         return min([known[name] for name in parts])
     return max([known[name] for name in parts])
+
+
+def widened(formula, known):
+    """Return how far off a formula can be for a dict that holds how far off each of its inputs can be."""
+    kind, parts = formula
+    if kind == "sum":
+        return sum([abs(factor) * known[name] for factor, name in parts])
+    return max([known[name] for name in parts])
+
+
+def ranged(formula, spans):
+    """Return the least and the greatest result of a formula for a dict with those of each of its inputs."""
+    kind, parts = formula
+    if kind == "sum":
+        # A negative factor turns the span of its input around.
+        ends = [sorted([factor * spans[name][0], factor * spans[name][1]]) for factor, name in parts]
+        return sum([low for low, high in ends]), sum([high for low, high in ends])
+    lows = {name: spans[name][0] for name in parts}
+    highs = {name: spans[name][1] for name in parts}
+    return computed(formula, lows), computed(formula, highs)

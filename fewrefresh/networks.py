@@ -86,3 +86,8 @@ class Network:
             if view in reached:
                 reached.update({lower: True for lower in formula_inputs(pair[0])})
         return [node for node in names if node in reached and node != name]
+
+
+def node_costs(network):
+    """Return a dict from the names of all nodes, in order, to their costs."""
+    return {name: pair[1] for name, pair in network.source_rows + network.view_rows}

@@ -52,6 +52,22 @@ class Refusals:
         self.assertEqual(frozen(arguments), before)
         return caught.exception
 
+    def refuse_in_order(self, call, good, wrong, **more):
+        """Assert the errors of a call for each wrong thing in place of a good argument.
+
+        `wrong` lists triples (position, error, things), in the order in which the errors are documented.
+        """
+        for at, (position, error, things) in enumerate(wrong):
+            for thing in things:
+                with self.subTest(call=call.__name__, position=position, thing=thing):
+                    arguments = list(good)
+                    arguments[position] = thing
+                    self.refuse(error, call, *arguments, **more)
+                    for later, other, others in wrong[at + 1:]:
+                        if later != position:
+                            arguments[later] = others[0]
+                            self.refuse(error, call, *arguments, **more)
+
     def leaves_arguments(self, call, *arguments):
         """Assert that a call changes no argument, keeps none, and returns something new each time."""
         before = frozen(arguments)

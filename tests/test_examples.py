@@ -1,8 +1,12 @@
-"""The examples of the document, word for word."""
+"""The examples of the document, word for word, and those of README.md."""
 
+import pathlib
+import re
 import unittest
 
 from tests.examples import run_example
+
+README = pathlib.Path(__file__).resolve().parent.parent / "README.md"
 
 NETWORKS = ("""
 >>> from fewrefresh.networks import Network
@@ -24,6 +28,52 @@ WORLDS = ("""
 [(-13, 1), (2, 2)]
 """,)
 
+ERRORBOUNDS = ("""
+>>> from fewrefresh.errorbounds import ages, worst
+>>> from fewrefresh.networks import Network
+>>> network = Network({'a': (2, 1), 'b': (1, 1)}, {'s': (('sum', ((1, 'a'), (-3, 'b'))), 2)})
+>>> plan = [(1, 'a'), (2, 's')]
+>>> [ages(network, 2, plan, (2, 's', 0)), worst(network, 2, plan, (2, 's', 0))]
+[{'a': 1, 'b': 2}, 8]
+""", """
+>>> from fewrefresh.errorbounds import least_bounds
+>>> from fewrefresh.networks import Network
+>>> network = Network({'a': (2, 1), 'b': (1, 1)}, {'m': (('max', ('a', 'b')), 2)})
+>>> least_bounds(network, 3, [(3, 'a')], (3, 'm', 0))
+{'a': 6, 'b': 3, 'm': 6}
+""")
+
+PLANS = ("""
+>>> from fewrefresh.networks import Network
+>>> from fewrefresh.plans import delayed, slacks
+>>> network = Network({'a': (2, 1)}, {})
+>>> [slacks(network, 4, [(2, 'a')], [(4, 'a', 5)]), delayed(network, 4, [(2, 'a')], [(4, 'a', 5), (3, 'a', 4)])]
+[[1], [(3, 'a')]]
+""",)
+
+CHEAPEST = ("""
+>>> from fewrefresh.cheapest import cheapest
+>>> from fewrefresh.networks import Network
+>>> network = Network({'a': (2, 1), 'b': (1, 1)}, {'m': (('max', ('a', 'b')), 3)})
+>>> cheapest(network, 3, [(3, 'm', 3)]).plan
+[(2, 'a'), (2, 'm')]
+""", """
+>>> from fewrefresh.cheapest import cheapest
+>>> from fewrefresh.networks import Network
+>>> network = Network({'a': (2, 1)}, {})
+>>> cheapest(network, 4, [(2, 'a', 1), (4, 'a', 3)]).plan
+[(2, 'a'), (3, 'a')]
+""")
+
+SITUATIONS = ("""
+>>> from fewrefresh.networks import Network
+>>> from fewrefresh.situations import ranges, situation
+>>> network = Network({'a': (2, 1), 'b': (1, 3)}, {'m': (('max', ('a', 'b')), 2)})
+>>> now = situation(network, {'a': (1, 10), 'b': (0, 8)}, 3)
+>>> [now, ranges(network, now)['m']]
+[{'a': (6, 14), 'b': (5, 11)}, (6, 14)]
+""",)
+
 
 class Examples(unittest.TestCase):
     def check(self, examples):
@@ -39,3 +89,22 @@ class Examples(unittest.TestCase):
 
     def test_worlds(self):
         self.check(WORLDS)
+
+    def test_errorbounds(self):
+        self.check(ERRORBOUNDS)
+
+    def test_plans(self):
+        self.check(PLANS)
+
+    def test_cheapest(self):
+        self.check(CHEAPEST)
+
+    def test_situations(self):
+        self.check(SITUATIONS)
+
+    def test_readme(self):
+        blocks = re.findall(r"```\n(>>> .*?)```", README.read_text(encoding="utf-8"), re.S)
+        pairs = run_example("".join(blocks))
+        self.assertGreater(len(pairs), 5)
+        for expected, found in pairs:
+            self.assertEqual(found, expected)

@@ -8,123 +8,10 @@ from fewrefresh import worlds
 from fewrefresh.errors import BadNetwork, BadNumber, BadPlan, BadQuery, BadWorld
 from fewrefresh.networks import Network
 from fewrefresh.worlds import answers, caches, is_world, value
-from tests.helpers import NOT_TEXT, NOT_WHOLE, STRANGERS, Refusals, containers, frozen
-
-NOT_NETWORKS = STRANGERS + (True, 1, [], {}, {"a": (1, 1)}, ({"a": (1, 1)}, {}), Network)
-NOT_HORIZONS = NOT_WHOLE + (0, -1, 13, 10 ** 30)
-NOT_NODES = NOT_TEXT + ("", "q", "A", "aa", "a ")
-
-
-def small():
-    """Return a network whose order is not that of the alphabet."""
-    return Network({"b": (2, 1), "a": (0, 3)}, {"s": (("sum", ((1, "b"), (-3, "a"))), 2)})
-
-
-def deep():
-    """Return a network with views over views."""
-    return Network({"c": (5, 1), "a": (20, 9), "b": (3, 2)},
-                   {"m": (("min", ("b", "c")), 3), "x": (("max", ("m", "a")), 1), "t": (("sum", ((-2, "x"),)), 4)})
-
-
-def still(network, horizon, worth=0):
-    """Return a world in which nothing changes."""
-    return {name: [worth] * (horizon + 1) for name in network.sources()}
-
-
-def wrong_worlds():
-    """Return things that are not worlds for small() and the horizon 2."""
-    good = {"b": [0, 1, 2], "a": [5, 5, 5]}
-    wrong = list(STRANGERS) + [True, 0, 1, [], {}, [good], (good,), list(good.items()), "ba", {"b": [0, 1, 2]},
-                               {**good, "s": [0, 0, 0]}, {**good, "q": [0, 0, 0]}, {**good, True: [0, 0, 0]},
-                               {"b": [0, 1, 2], True: [5, 5, 5]}, {"b": [0, 1, 2], "A": [5, 5, 5]},
-                               {"b": [0, 1, 2], b"a": [5, 5, 5]}]
-    for course in list(STRANGERS) + [True, 5, [], (5, 5, 5), [5, 5], [5, 5, 5, 5], [5, 5, 6], [5, 4, 5], [5, 5, "5"],
-                                     [5, None, 5], [[5], [5], [5]], {0: 5, 1: 5, 2: 5}, [True, True, True],
-                                     [1, True, 1], [False, 0, 0], "555"]:
-        wrong.append({"b": [0, 1, 2], "a": course})
-    for course in ([0, 3, 2], [0, -3, 0], [3, 0, 0], [0, 0, 3], [-1, 1, 4], [10 ** 30, 10 ** 30 + 3, 10 ** 30]):
-        wrong.append({"b": course, "a": [5, 5, 5]})
-    return wrong
-
-
-def wrong_plans():
-    """Return things that are not plans for small() and the horizon 2."""
-    wrong = list(STRANGERS) + [True, 0, 1, {}, {(1, "b"): 1}, "1b", (1, "b"), [1, "b"], (True,), [None]]
-    for refresh in list(STRANGERS) + [True, 1, [1, "b"], (1,), (1, "b", 1), ("b", 1), {1: "b"}, (0, "b"), (-1, "b"),
-                                      (3, "b"), (13, "b")]:
-        wrong.append([refresh])
-        wrong.append([(1, "b"), refresh])
-    wrong.extend([[(tick, "b")] for tick in NOT_WHOLE])
-    wrong.extend([[(1, name)] for name in NOT_NODES])
-    wrong.extend([[(1, "b"), (1, "b")], [(2, "b"), (1, "b")], [(1, "a"), (1, "b")], [(1, "s"), (1, "a")],
-                  [(2, "b"), (1, "s")], [(1, "b"), (2, "b"), (2, "b")], [(1, "b"), (2, "b"), (1, "a")],
-                  [(1, "b"), (2, "b"), (1, "b")]])
-    return wrong + [tuple(plan) for plan in wrong if isinstance(plan, list)]
-
-
-def wrong_queries():
-    """Return things that are not queries for small() and the horizon 2."""
-    wrong = list(STRANGERS) + [True, 0, [0, "b", 0], (), (0,), (0, "b"), (0, "b", 0, 0), {0: 0, 1: "b", 2: 0},
-                               (-1, "b", 0), (3, "b", 0), (0, "b", -1), (0, "b", 1000), (0, 0, "b"), ("b", 0, 0)]
-    wrong.extend([(tick, "b", 0) for tick in NOT_WHOLE])
-    wrong.extend([(0, name, 0) for name in NOT_NODES])
-    wrong.extend([(0, "b", tolerance) for tolerance in NOT_WHOLE])
-    return wrong
-
-
-def reference_value(network, world, name, tick):
-    """Return the value of a node, by the words of [2] and [3]."""
-    if name in network.sources():
-        return world[name][tick]
-    kind, parts = network.views()[name][0]
-    if kind == "sum":
-        return sum(factor * reference_value(network, world, below, tick) for factor, below in parts)
-    return {"min": min, "max": max}[kind](reference_value(network, world, below, tick) for below in parts)
-
-
-def reference_cache(network, world, plan, name, tick, before=99):
-    """Return a cache after the refreshes of a tick of nodes before a place in the order, by the words of [4]."""
-    order = network.names()
-    done = [when for when, node in plan
-            if node == name and (when < tick or when == tick and order.index(node) < before)]
-    if not done:
-        return reference_value(network, world, name, 0)
-    if name in network.sources():
-        return world[name][done[-1]]
-    kind, parts = network.views()[name][0]
-    names = [part[1] for part in parts] if kind == "sum" else parts
-    held = {below: reference_cache(network, world, plan, below, done[-1], order.index(name)) for below in names}
-    if kind == "sum":
-        return sum(factor * held[below] for factor, below in parts)
-    return {"min": min, "max": max}[kind](held.values())
-
-
-def some_formula(chance, free):
-    """Return a formula over some free nodes, which it removes from the list."""
-    names = [free.pop(chance.randrange(len(free))) for at in range(chance.randint(1, min(4, len(free))))]
-    kind = chance.choice(("sum", "min", "max"))
-    if kind == "sum":
-        return kind, tuple((chance.choice((-5, -2, -1, 1, 3, 5)), name) for name in names)
-    return kind, tuple(names)
-
-
-def some_case(chance):
-    """Return a network, a horizon, a world and a plan."""
-    letters = chance.sample("abcdefgh", chance.randint(1, 8))
-    many = chance.randint(1, len(letters))
-    sources = {name: (chance.randint(0, 20), chance.randint(1, 9)) for name in letters[:many]}
-    free, views = list(sources), {}
-    for name in letters[many:]:
-        views[name] = (some_formula(chance, free), chance.randint(1, 9))
-        free.append(name)
-    network, horizon = Network(sources, views), chance.randint(1, 12)
-    world = {}
-    for name in chance.sample(list(sources), many):
-        world[name] = [chance.randint(-50, 50)]
-        for tick in range(horizon):
-            world[name].append(world[name][-1] + chance.randint(-sources[name][0], sources[name][0]))
-    plan = [(tick, name) for tick in range(1, horizon + 1) for name in letters if chance.random() < 0.3]
-    return network, horizon, world, plan
+from tests.cases import (NOT_HORIZONS, NOT_NETWORKS, NOT_NODES, deep, small, some_case, some_query, still,
+                         wrong_plans, wrong_query_lists, wrong_worlds)
+from tests.helpers import NOT_WHOLE, Refusals, containers, frozen
+from tests.reference import reference_cache, reference_value
 
 
 class IsWorld(unittest.TestCase, Refusals):
@@ -319,8 +206,7 @@ class Answers(unittest.TestCase, Refusals):
         chance = random.Random(3)
         for at in range(100):
             network, horizon, world, plan = some_case(chance)
-            queries = [(chance.randint(0, horizon), chance.choice(network.names()), chance.randint(0, 999))
-                       for many in range(chance.randint(1, 20))]
+            queries = [some_query(chance, network, horizon) for many in range(chance.randint(1, 20))]
             expected = []
             for tick, name, tolerance in queries:
                 answer = reference_cache(network, world, plan, name, tick)
@@ -328,12 +214,9 @@ class Answers(unittest.TestCase, Refusals):
             self.assertEqual(answers(network, horizon, world, plan, queries), expected)
 
     def test_refuses_queries(self):
-        for thing in STRANGERS + (True, 0, {}, {(0, "b", 0): 1}, (0, "b", 0), [0, "b", 0]):
-            self.refuse(BadQuery, answers, small(), 2, self.world, [], thing)
-        for query in wrong_queries():
-            with self.subTest(query=query):
-                for queries in ([query], (query,), [(0, "b", 0), query], [query, (0, "b", 0)]):
-                    self.refuse(BadQuery, answers, small(), 2, self.world, [], queries)
+        for queries in wrong_query_lists():
+            with self.subTest(queries=queries):
+                self.refuse(BadQuery, answers, small(), 2, self.world, [], queries)
 
     def test_order_of_errors(self):
         for thing in NOT_NETWORKS:
