@@ -4,7 +4,7 @@ from fewrefresh.basics import is_number
 from fewrefresh.checks import check_horizon, check_network, check_plan, check_queries, is_plan
 from fewrefresh.errorbounds import are_bounds, example, least_bounds
 from fewrefresh.errors import TooLarge
-from fewrefresh.hitting import first_choice, some_choice, total
+from fewrefresh.hitting import first_cheapest, some_choice, total
 from fewrefresh.lags import holds, marked
 from fewrefresh.networks import node_costs
 from fewrefresh.worlds import answers, is_world
@@ -68,16 +68,13 @@ def searched(network, queries, costs, kept):
     found so far is sufficient, it is the first cheapest one of all.
     """
     pairs = []
-    limit = 0
-    while True:
-        chosen = first_choice([refreshes for refreshes, index in pairs], costs, limit)
-        if chosen is None:
-            limit += 1
-        else:
-            more = missing_lists(network, queries, costs, list(kept) + chosen)
-            if not more:
-                return chosen, pairs
-            pairs.extend(more)
+    chosen = []
+    more = missing_lists(network, queries, costs, list(kept))
+    while more:
+        pairs.extend(more)
+        chosen = first_cheapest([refreshes for refreshes, index in pairs], costs, total(costs, chosen))
+        more = missing_lists(network, queries, costs, list(kept) + chosen)
+    return chosen, pairs
 
 
 def made_cut(network, horizon, queries, refreshes, index):

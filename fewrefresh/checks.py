@@ -80,9 +80,14 @@ def check_query(network, horizon, query):
         raise BadQuery("not a query")
 
 
+def are_queries(network, horizon, thing):
+    """Return whether a thing is a list or tuple of 1 to 20 queries."""
+    if not isinstance(thing, (list, tuple)) or not 1 <= len(thing) <= MOST_QUERIES:
+        return False
+    return all([is_query(network, horizon, query) for query in thing])
+
+
 def check_queries(network, horizon, queries):
-    """Raise BadQuery if a thing is not a list or tuple of queries, or not of 1 to 20."""
-    if not isinstance(queries, (list, tuple)) or not 1 <= len(queries) <= MOST_QUERIES:
+    """Raise BadQuery if a thing is not a list or tuple of 1 to 20 queries."""
+    if not are_queries(network, horizon, queries):
         raise BadQuery("not a list or tuple of 1 to 20 queries")
-    if not all([is_query(network, horizon, query) for query in queries]):
-        raise BadQuery("not a list of queries")

@@ -79,3 +79,12 @@ def first_choice(lists, costs, limit):
         else:
             lists = [[other for other in items if other != item] for items in lists]
     return chosen
+
+
+def first_cheapest(lists, costs, limit):
+    """Return the first of the cheapest choices that meet all lists. None of them costs less than the limit."""
+    chosen = first_choice(lists, costs, limit)
+    while chosen is None:
+        limit += 1
+        chosen = first_choice(lists, costs, limit)
+    return chosen

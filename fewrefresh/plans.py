@@ -37,6 +37,11 @@ def without(plan, refresh):
     return [other for other in plan if other != refresh]
 
 
+def ordered(network, horizon, refreshes):
+    """Return different refreshes as a plan, in order."""
+    return [(tick, name) for tick in range(1, horizon + 1) for name in network.names() if (tick, name) in refreshes]
+
+
 def redundant(network, horizon, plan, queries):
     """Return the list of the redundant refreshes of a plan."""
     check_sufficient(network, horizon, plan, queries)
@@ -71,8 +76,7 @@ def delayed_refresh(network, horizon, plan, queries, refresh):
 def delayed(network, horizon, plan, queries):
     """Return the plan in which each refresh, from the last one on, is moved to the latest possible tick."""
     check_sufficient(network, horizon, plan, queries)
-    names = network.names()
     left = list(plan)
     for refresh in reversed(plan):
         left = without(left, refresh) + [delayed_refresh(network, horizon, left, queries, refresh)]
-    return [(tick, name) for tick in range(1, horizon + 1) for name in names if (tick, name) in left]
+    return ordered(network, horizon, left)

@@ -54,11 +54,16 @@ def situation(network, records, tick):
     return spans
 
 
+def node_ranges(network, spans):
+    """Return a dict from all names, in order, to their ranges for a situation that is already checked."""
+    known = {name: spans[name] for name in network.sources()}
+    for name, pair in network.views().items():
+        known[name] = ranged(pair[0], known)
+    return known
+
+
 def ranges(network, situation):
     """Return a dict from all names, in order, to pairs of their least and greatest possible values."""
     check_network(network)
     check_situation(network, situation)
-    spans = {name: situation[name] for name in network.sources()}
-    for name, pair in network.views().items():
-        spans[name] = ranged(pair[0], spans)
-    return spans
+    return node_ranges(network, situation)

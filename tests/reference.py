@@ -1,5 +1,7 @@
 """What the document says, in other words than those of the program: slow, and without checks."""
 
+import itertools
+
 
 def reference_value(network, world, name, tick):
     """Return the value of a node, by the words of [2] and [3]."""
@@ -191,3 +193,73 @@ def reference_shows(parts, network, horizon, queries, kept):
     return all(reference_cost(network, chosen) + reference_cost(network, kept) >= spent
                for chosen in subsets([refresh for refresh in order if refresh not in kept])
                if all(set(chosen) & set(refreshes) for refreshes, index, world in cuts))
+
+
+def reference_sources(network, name):
+    """Return the sources of a question about a node."""
+    return [source for source in network.sources() if source == name or source in network.below(name)]
+
+
+def reference_worths(network, spans, name):
+    """Return pairs of an assignment of the sources of a question and the value of its node, for all of them."""
+    sources = reference_sources(network, name)
+    pairs = []
+    for worths in itertools.product(*[range(spans[source][0], spans[source][1] + 1) for source in sources]):
+        given = dict(zip(sources, worths))
+        pairs.append((given, reference_value(network, {source: [given[source]] for source in given}, name, 0)))
+    return pairs
+
+
+def reference_enough(worths, tolerance, chosen):
+    """Return whether chosen sources are enough, from all assignments and the values of the node with them."""
+    groups = {}
+    for given, worth in worths:
+        groups.setdefault(tuple(given[source] for source in chosen if source in given), []).append(worth)
+    return all(max(group) - min(group) <= 2 * tolerance for group in groups.values())
+
+
+def reference_choices(network):
+    """Return all sets of sources, the cheapest ones first, those of equal cost ordered as lists."""
+    order = list(network.sources())
+    return sorted(subsets(order), key=lambda chosen: (sum(network.sources()[name][1] for name in chosen),
+                                                      [order.index(name) for name in chosen]))
+
+
+def is_doubt_of(network, spans, question, doubt):
+    """Return whether a pair of dicts from strings to integers is a doubt, by the words of [13]."""
+    worths = []
+    for part in doubt:
+        if set(part) != set(network.sources()):
+            return False
+        if not all(spans[name][0] <= part[name] <= spans[name][1] for name in part):
+            return False
+        worths.append(reference_value(network, {name: [part[name]] for name in part}, question[0], 0))
+    return abs(worths[0] - worths[1]) > 2 * question[1]
+
+
+def reference_reading_shows(chosen, doubts, network, spans, question):
+    """Return whether chosen sources and doubts are as in [13], by a search through all sets of sources."""
+    if not reference_enough(reference_worths(network, spans, question[0]), question[1], chosen):
+        return False
+    if not all(is_doubt_of(network, spans, question, doubt) for doubt in doubts):
+        return False
+    costs = {name: pair[1] for name, pair in network.sources().items()}
+    spent = sum(costs[name] for name in chosen)
+    return all(sum(costs[name] for name in other) >= spent for other in subsets(list(costs))
+               if all(any(first[name] != second[name] for name in other) for first, second in doubts))
+
+
+def reference_lasts(network, horizon, plan, query):
+    """Return the greatest tick up to which a query holds, or None, by the words of [14]."""
+    tick, name, tolerance = query
+    held = [last for last in range(tick, horizon + 1)
+            if all(reference_error(network, plan, (t, name)) <= tolerance for t in range(tick, last + 1))]
+    return max(held, default=None)
+
+
+def reference_weighing(network, plan, query):
+    """Return the sources that weigh, by the words of [14]."""
+    ages = reference_ages(network, plan, query)
+    error = reference_worst(network, ages, query[1])
+    return [source for source in ages
+            if reference_worst(network, {**ages, source: ages[source] + 1}, query[1]) > error]

@@ -74,6 +74,68 @@ SITUATIONS = ("""
 [{'a': (6, 14), 'b': (5, 11)}, (6, 14)]
 """,)
 
+READING = ("""
+>>> from fewrefresh.networks import Network
+>>> from fewrefresh.reading import what_to_read
+>>> network = Network({'a': (2, 1), 'b': (1, 3)}, {'m': (('max', ('a', 'b')), 2)})
+>>> what_to_read(network, {'a': (6, 14), 'b': (5, 11)}, ('m', 2)).chosen
+['a', 'b']
+""", """
+>>> from fewrefresh.networks import Network
+>>> from fewrefresh.reading import what_to_read
+>>> network = Network({'a': (2, 1), 'b': (1, 3)}, {'m': (('max', ('a', 'b')), 2)})
+>>> what_to_read(network, {'a': (6, 14), 'b': (5, 11)}, ('m', 3)).chosen
+['a']
+""", """
+>>> from fewrefresh.networks import Network
+>>> from fewrefresh.reading import Reading
+>>> network = Network({'a': (2, 1), 'b': (1, 3)}, {'m': (('max', ('a', 'b')), 2)})
+>>> doubt = ({'a': 6, 'b': 5}, {'a': 6, 'b': 11})
+>>> [Reading(['a', 'b'], [doubt]).shows(network, {'a': (6, 14), 'b': (5, 11)}, ('m', 2)), Reading(['a', 'b'], [doubt, ({'a': 6, 'b': 5}, {'a': 14, 'b': 5})]).shows(network, {'a': (6, 14), 'b': (5, 11)}, ('m', 2))]
+[False, True]
+""", """
+>>> from fewrefresh.networks import Network
+>>> from fewrefresh.reading import middle
+>>> network = Network({'a': (2, 1), 'b': (1, 3)}, {'m': (('max', ('a', 'b')), 2)})
+>>> now = {'a': (6, 14), 'b': (5, 11)}
+>>> [middle(network, now, ('m', 2), {'a': 6}), middle(network, now, ('m', 2), {'a': 7}), middle(network, now, ('m', 2), {'a': 9})]
+[None, 9, 10]
+""")
+
+EXPIRY = ("""
+>>> from fewrefresh.networks import Network
+>>> from fewrefresh.expiry import lasts, weighing
+>>> network = Network({'a': (2, 1), 'b': (1, 3)}, {'m': (('max', ('a', 'b')), 2)})
+>>> [lasts(network, 6, [(2, 'a'), (2, 'm')], (2, 'm', 4)), weighing(network, 6, [(2, 'a'), (2, 'm')], (4, 'm', 4))]
+[4, ['a', 'b']]
+""",)
+
+TEXTS = (r"""
+>>> from fewrefresh.networks import Network
+>>> from fewrefresh.texts import network_text
+>>> network_text(Network({'a': (2, 1), 'b': (1, 1)}, {'s': (('sum', ((1, 'a'), (-3, 'b'))), 2)}))
+'source a 2 1\nsource b 1 1\nview s 2 sum 1*a -3*b\n'
+""", r"""
+>>> from fewrefresh.texts import read_network
+>>> read_network('source a 2 1\nview m 3 max a b\n')
+raises BadText(row=0)
+""", r"""
+>>> from fewrefresh.networks import Network
+>>> from fewrefresh.texts import read_plan
+>>> network = Network({'a': (2, 1), 'b': (1, 3)}, {'m': (('max', ('a', 'b')), 2)})
+>>> read_plan(network, 3, 'refresh 1 b\nrefresh 3 m\n')
+[(1, 'b'), (3, 'm')]
+""")
+
+BENCHES = (r"""
+>>> from fewrefresh.benches import Bench
+>>> bench = Bench()
+>>> bench.execute(('add', 'one', 'source a 2 1\n', 4))
+>>> first = bench.execute(('ask', 'one', (4, 'a', 3)))
+>>> [first, bench.execute(('plan', 'one')), bench.execute(('delay', 'one'))]
+[[], [(3, 'a')], [(4, 'a')]]
+""",)
+
 
 class Examples(unittest.TestCase):
     def check(self, examples):
@@ -101,6 +163,18 @@ class Examples(unittest.TestCase):
 
     def test_situations(self):
         self.check(SITUATIONS)
+
+    def test_reading(self):
+        self.check(READING)
+
+    def test_expiry(self):
+        self.check(EXPIRY)
+
+    def test_texts(self):
+        self.check(TEXTS)
+
+    def test_benches(self):
+        self.check(BENCHES)
 
     def test_readme(self):
         blocks = re.findall(r"```\n(>>> .*?)```", README.read_text(encoding="utf-8"), re.S)

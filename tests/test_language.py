@@ -92,12 +92,23 @@ class Files(unittest.TestCase):
 class Modules(unittest.TestCase):
     def test_module_level(self):
         for path, tree in parsed():
+            functions = []
             for node in tree.body[1:]:
                 place = f"{path.name}:{node.lineno}"
                 self.assertIsInstance(node, (ast.ImportFrom, ast.FunctionDef, ast.ClassDef, ast.Assign), place)
+                if isinstance(node, ast.FunctionDef):
+                    functions.append(node.name)
                 if isinstance(node, ast.Assign):
                     self.assertEqual([target.__class__ for target in node.targets], [ast.Name], place)
-                    ast.literal_eval(node.value)
+                    self.check_plain(node.value, functions, place)
+
+    def check_plain(self, value, functions, place):
+        """Assert that a value is plain, or a dict of functions that are defined above it."""
+        if isinstance(value, ast.Dict) and all(isinstance(item, ast.Name) for item in value.values):
+            for item in value.values:
+                self.assertIn(item.id, functions, place)
+            value = ast.Dict(value.keys, [ast.Constant(None)] * len(value.keys))
+        ast.literal_eval(value)
 
     def test_bound_once(self):
         for path, tree in parsed():

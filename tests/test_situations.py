@@ -8,46 +8,9 @@ import unittest
 from fewrefresh.errors import BadNetwork, BadNumber, BadRecords, BadSituation
 from fewrefresh.networks import Network
 from fewrefresh.situations import ranges, situation
-from tests.cases import NOT_NETWORKS, small, some_case
-from tests.helpers import NOT_WHOLE, STRANGERS, Refusals, frozen
+from tests.cases import NOT_NETWORKS, RECORDS, SITUATION, small, some_case, wrong_records, wrong_situations
+from tests.helpers import NOT_WHOLE, Refusals, frozen
 from tests.reference import reference_value
-
-RECORDS = {"b": (3, 7), "a": (0, -2)}
-SITUATION = {"b": (5, 9), "a": (-2, -2)}
-
-
-def wrong_dicts(good):
-    """Return things that are not dicts from the sources of small()."""
-    wrong = list(STRANGERS) + [True, 0, 1, [], (), {}, list(good), list(good.items()), tuple(good.items()), "ba"]
-    for name in good:
-        fewer = {other: pair for other, pair in good.items() if other != name}
-        wrong.extend([fewer, {**fewer, "q": good[name]}, {**fewer, "s": good[name]}, {**fewer, True: good[name]},
-                      {**fewer, None: good[name]}, {**fewer, name.encode(): good[name]},
-                      {**fewer, name.upper(): good[name]}])
-    return wrong + [{**good, other: (0, 0)} for other in ("s", "q", "", 0, None)]
-
-
-def wrong_pairs():
-    """Return things that are not pairs of integers."""
-    wrong = list(STRANGERS) + [True, 1, [0, 0], {0: 0, 1: 0}, (), (0,), (0, 0, 0), "00", ((0, 0),)]
-    for thing in NOT_WHOLE:
-        wrong.extend([(thing, 0), (0, thing)])
-    return wrong
-
-
-def wrong_records():
-    """Return things that are not records for small()."""
-    wrong = wrong_dicts(RECORDS)
-    pairs = wrong_pairs() + [(-1, 0), (100, 0), (10 ** 30, 0), (0, 10000), (0, -10000), (0, 10 ** 30)]
-    return wrong + [{**RECORDS, name: pair} for name in RECORDS for pair in pairs]
-
-
-def wrong_situations():
-    """Return things that are not situations for small()."""
-    wrong = wrong_dicts(SITUATION)
-    pairs = wrong_pairs() + [(1, 0), (0, -1), (-99998, -99999), (99999, 99998), (-100000, 0), (0, 100000),
-                             (100000, 100000), (-100000, -100000), (99999, 100000), (-10 ** 30, 10 ** 30)]
-    return wrong + [{**SITUATION, name: pair} for name in SITUATION for pair in pairs]
 
 
 class Situation(unittest.TestCase, Refusals):
