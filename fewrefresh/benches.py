@@ -61,10 +61,8 @@ def planned(task):
     return network, horizon, queries, cheapest(network, horizon, queries).plan
 
 
-# How many items the commands have.
-SIZES = {"add": 4, "delete": 2, "ask": 3, "refresh": 3, "cancel": 3, "trim": 2, "delay": 2, "plan": 2}
+ITEM_COUNTS = {"add": 4, "delete": 2, "ask": 3, "refresh": 3, "cancel": 3, "trim": 2, "delay": 2, "plan": 2}
 
-# What becomes of a task, and of the further items, by the commands that change one.
 CHANGES = {"ask": asked, "refresh": refreshed, "cancel": cancelled, "trim": trimmed_task, "delay": delayed_task,
            "plan": planned}
 
@@ -73,7 +71,7 @@ def check_command(command):
     """Raise BadCommand if a thing is not a tuple with a keyword and the right number of items."""
     if not isinstance(command, tuple) or not command or not isinstance(command[0], str):
         raise BadCommand("not a tuple that begins with a keyword")
-    if SIZES.get(command[0], 0) != len(command):
+    if ITEM_COUNTS.get(command[0], 0) != len(command):
         raise BadCommand("not a keyword, or not its number of items")
 
 

@@ -80,16 +80,15 @@ def read_source(words):
     return None if said is None else (said[0], said[1:])
 
 
-# The readers of the inputs, by the kind of the formula.
-INPUTS = {"sum": read_term, "min": read_name, "max": read_name}
+INPUT_READERS = {"sum": read_term, "min": read_name, "max": read_name}
 
 
 def read_view(words):
     """Return the pair (name, (formula, cost)) that the words of a line say, or None."""
     said = read_words(words[:2], (read_name, read_number))
-    if said is None or len(words) < 4 or words[2] not in INPUTS:
+    if said is None or len(words) < 4 or words[2] not in INPUT_READERS:
         return None
-    read = INPUTS[words[2]]
+    read = INPUT_READERS[words[2]]
     inputs = [read(word) for word in words[3:]]
     return None if None in inputs else (said[0], ((words[2], tuple(inputs)), said[1]))
 

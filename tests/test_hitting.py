@@ -3,7 +3,7 @@
 import random
 import unittest
 
-from fewrefresh.hitting import first_choice, least_total, some_choice, total, worthwhile
+from fewrefresh.hitting import first_cheapest, first_choice, least_total, some_choice, total, worthwhile
 from tests.helpers import Refusals
 from tests.reference import subsets
 
@@ -46,6 +46,13 @@ class Choices(unittest.TestCase, Refusals):
             self.assertEqual(first_choice(lists, costs, total(costs, first)), first)
             self.assertIsNone(first_choice(lists, costs, total(costs, first) - 1))
 
+    def test_first_cheapest(self):
+        for lists, costs in self.cases:
+            first = meeting(lists, costs)[0]
+            least = total(costs, first)
+            for limit in {0, least // 2, max(0, least - 1), least}:
+                self.assertEqual(first_cheapest(lists, costs, limit), first)
+
     def test_least_total(self):
         close = 0
         for lists, costs in self.cases:
@@ -84,4 +91,5 @@ class Choices(unittest.TestCase, Refusals):
             least = total(costs, meeting(lists, costs)[0])
             self.leaves_arguments(some_choice, lists, costs, least)
             self.leaves_arguments(first_choice, lists, costs, least)
+            self.leaves_arguments(first_cheapest, lists, costs, 0)
             self.leaves_arguments(worthwhile, lists, costs)

@@ -217,6 +217,19 @@ class WhatToRead(unittest.TestCase):
             sizes[len(found.chosen)] = sizes.get(len(found.chosen), 0) + 1
         self.assertTrue(all(sizes.get(size, 0) > 5 for size in (0, 1, 2, 3)), sizes)
 
+    def test_doubts_have_no_differences_that_they_do_not_need(self):
+        chance = random.Random(66)
+        many = 0
+        for at in range(200):
+            network, spans, question = some_question(chance)
+            for first, second in what_to_read(network, spans, question).doubts:
+                for name in spans:
+                    if first[name] != second[name]:
+                        many += 1
+                        closer = (first, {**second, name: first[name]})
+                        self.assertIs(is_doubt_of(network, spans, question, closer), False)
+        self.assertGreater(many, 100)
+
     def test_ends_of_the_limits(self):
         for low, high in ((-99999, -99998), (99998, 99999)):
             found = self.check(Network({"a": (1, 1), "b": (1, 2)}, {"s": (("sum", ((5, "a"), (-5, "b"))), 1)}),
@@ -290,6 +303,10 @@ class Shows(unittest.TestCase):
         self.assertIs(Reading([], []).shows(PAIR, NOW, ("m", 4)), True)
         self.assertIs(Reading([], []).shows(PAIR, NOW, ("m", 3)), False)
         self.assertIs(Reading(["a"], []).shows(PAIR, NOW, ("m", 4)), False)
+
+    def test_doubts_are_tuples(self):
+        self.found.doubts = [list(doubt) for doubt in self.found.doubts]
+        self.assertIs(self.found.shows(PAIR, NOW, self.question), False)
 
     def change(self, changed):
         """Yield what shows tells if one assignment at a time is changed, by a function that returns the new one."""
